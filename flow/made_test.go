@@ -136,7 +136,7 @@ func texts(t *testing.T, n int, use func(s string, f api.File)) {
 
 // What is told is what other means find (see parts_test.go), of right texts and of broken ones.
 func TestByParts(t *testing.T) {
-	wrong, heard, sound := 0, 0, 0
+	wrong, heard, sound, set := 0, 0, 0, 0
 	texts(t, 1500, func(s string, f api.File) {
 		n := 0
 		if got, want := Floors(f), floorsByTags(f); !slices.Equal(got, want) {
@@ -149,6 +149,12 @@ func TestByParts(t *testing.T) {
 				t.Fatalf("of item %d of %q is wrong\n%v, not\n%v", i, s, got, want)
 			}
 			n += len(want)
+			if got, want := Lets(f, i), p.lets(); !slices.Equal(got, want) {
+				t.Fatalf("to lets of item %d of %q flows %v, not %v", i, s, got, want)
+			}
+			for _, secret := range p.lets() {
+				set += min(secret, 1)
+			}
 			for at := -1; at <= it.Size; at++ {
 				wantN, wantOK := p.label(at)
 				if got, ok := Label(f, i, at); got != wantN || ok != wantOK {
@@ -167,7 +173,7 @@ func TestByParts(t *testing.T) {
 			sound++
 		}
 	})
-	if wrong < 4000 || heard < 40000 || sound < 200 {
-		t.Errorf("with %d wrong, %d heard and %d sound the texts are too poor", wrong, heard, sound)
+	if wrong < 4000 || heard < 40000 || sound < 200 || set < 1000 {
+		t.Errorf("with %d wrong, %d heard, %d sound and %d told to lets the texts are too poor", wrong, heard, sound, set)
 	}
 }

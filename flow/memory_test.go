@@ -25,7 +25,7 @@ func own(f api.File) api.File {
 func everything(f api.File) string {
 	l := []any{Floors(f), Sound(f)}
 	for i := -1; i <= len(f.Items); i++ {
-		l = append(l, Diags(f, i))
+		l = append(l, Diags(f, i), Lets(f, i))
 		for at := 0; at < 200; at += 7 {
 			n, ok := Label(f, i, at)
 			l = append(l, n, ok)
@@ -94,24 +94,27 @@ func TestRoomBehind(t *testing.T) {
 
 // Lists that are answered are the caller's, with the room behind them.
 func TestAnswersAreNew(t *testing.T) {
-	f := read(t, "chan c: {};\nfn f(x: {a}): {} sends c { send c x; return x; f(x); if x { f(1); x = 2; } }\nfn g(x: {a}): {} { return x; }")
+	f := read(t, "chan c: {};\nfn f(x: {a}): {} sends c { let y = x; send c x; return x; f(x); if x { f(1); x = 2; let z: {} = 1; } }\nfn g(x: {a}): {} { return x; }")
 	was, first := own(f), everything(f)
-	diags, low := Diags(f, 1), Floors(f)
+	diags, low, lets := Diags(f, 1), Floors(f), Lets(f, 1)
 	for i := range diags[:cap(diags)] {
 		diags[:cap(diags)][i] = api.Diag{Name: "wiped"}
 	}
 	for i := range low[:cap(low)] {
 		low[:cap(low)][i] = -1
 	}
+	for i := range lets[:cap(lets)] {
+		lets[:cap(lets)][i] = -1
+	}
 	if got := everything(f); got != first || !reflect.DeepEqual(f, was) {
 		t.Errorf("who changes answers changes others: %s, not %s", got, first)
 	}
-	diags, low = Diags(f, 1), Floors(f)
-	want := fmt.Sprint(diags, low)
+	diags, low, lets = Diags(f, 1), Floors(f), Lets(f, 1)
+	want := fmt.Sprint(diags, low, lets)
 	for i := range f.Items {
 		f.Items[i] = api.Item{Name: "wiped"}
 	}
-	if got := fmt.Sprint(diags, low); got != want {
+	if got := fmt.Sprint(diags, low, lets); got != want {
 		t.Errorf("who changes a file changes answers: %s, not %s", got, want)
 	}
 }

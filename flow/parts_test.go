@@ -219,3 +219,22 @@ func (p *parts) diags() []api.Diag {
 	}
 	return out
 }
+
+// lets has, of each let, all that its maker and its setters are told.
+func (p *parts) lets() []int {
+	var out []int
+	for k, st := range p.lines {
+		if st.Kind != api.StLet {
+			continue
+		}
+		n := p.tags(st.E) | p.around(k)
+		for other, set := range p.lines {
+			def, ok := p.made[p.item.At+set.At]
+			if set.Kind == api.StSet && set.Name != "" && ok && def == p.item.At+st.At {
+				n |= p.tags(set.E) | p.around(other)
+			}
+		}
+		out = append(out, n)
+	}
+	return out
+}

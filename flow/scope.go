@@ -1,18 +1,23 @@
 package flow
 
-// scope has the label of the local that a name means, 0 of one that nothing made. It is never changed: a block adds to its own, and what is around it still has the one that it had.
-type scope func(name string) int
+// local is what a name means: its label, and the number of the let that made it, noLet of any other.
+type local struct{ label, let int }
 
-func nothing(string) int { return 0 }
+const noLet = -1
+
+// scope has the local that a name means, of label 0 where nothing made it. It is never changed: a block adds to its own, and what is around it still has the one that it had.
+type scope func(name string) local
+
+func nothing(string) local { return local{let: noLet} }
 
 // with adds a local that hides those of its name. One without a name is none.
-func (in scope) with(name string, n int) scope {
+func (in scope) with(name string, made local) scope {
 	if name == "" {
 		return in
 	}
-	return func(asked string) int {
+	return func(asked string) local {
 		if asked == name {
-			return n
+			return made
 		}
 		return in(asked)
 	}
