@@ -13,8 +13,8 @@ const (
 	tightest = 3
 )
 
-// binds tells how tightly what stands between expressions binds, and 0 of what doesn't.
-func binds(text string) int {
+// Binds tells how tightly what stands between expressions binds, and 0 of what doesn't.
+func Binds(text string) int {
 	switch text {
 	case "=", "<":
 		return loosest
@@ -48,7 +48,7 @@ func (r *reader) chain(bind int) api.Expr {
 		return r.single()
 	}
 	left := r.chain(bind + 1)
-	for binds(r.peek().Text) == bind {
+	for Binds(r.peek().Text) == bind {
 		sign := r.pass().Text
 		right := r.chain(bind + 1)
 		left = api.Expr{Kind: api.ExOp, Name: sign, Args: []api.Expr{left, right}, From: left.From, To: max(left.To, right.To)}

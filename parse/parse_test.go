@@ -189,6 +189,19 @@ func wipeExprs(l []api.Expr) {
 	}
 }
 
+func TestBinds(t *testing.T) {
+	for bind, l := range []string{"fn x 1 ? ( ) { } , : ; == <= ++ ** +- /", "= <", "+ -", "*"} {
+		for _, text := range strings.Fields(l) {
+			if got := Binds(text); got != bind {
+				t.Errorf("%q binds as %d, not as %d", text, got, bind)
+			}
+		}
+	}
+	if got := Binds(""); got != 0 {
+		t.Errorf("nothing binds as %d", got)
+	}
+}
+
 func TestOwn(t *testing.T) {
 	for seed := range int64(300) {
 		s, want := right(seed)
